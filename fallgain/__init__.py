@@ -1,0 +1,1 @@
+"""Fallgain: worths of sets whose gains fall."""
