@@ -48,3 +48,12 @@ def set_of(things):
 def sum_over(numbers, members):
     """The numbers that the set's things have, together."""
     return sum([number for thing, number in enumerate(numbers) if has_thing(members, thing)])
+
+
+def sums_of_sets(numbers):
+    """For each set, by its number, what sum_over tells of it."""
+    sums = [0]
+    for number in numbers:
+        # The sets with this thing follow those without it, in the same order.
+        sums = sums + [known + number for known in sums]
+    return sums

@@ -1,6 +1,8 @@
 """Houses and other values that several tests ask about."""
 
+import math
 import random
+from fractions import Fraction
 
 FAR = 10 ** 59
 EDGE = 10 ** 15
@@ -67,3 +69,20 @@ def some_houses():
 def changed(values, at, value):
     """The tuple with another value at this place."""
     return values[:at] + (value,) + values[at + 1:]
+
+
+def cost(prices, number):
+    """What the set's things cost together."""
+    return sum(price for thing, price in enumerate(prices) if number & 2 ** thing)
+
+
+def prices_of(row):
+    """The prices of a row, as Python's own fractions."""
+    return [Fraction(number, row[1]) for number in row[0]]
+
+
+def row_with(prices):
+    """The row with these prices, ints or Python's own fractions."""
+    prices = [Fraction(price) for price in prices]
+    bottom = math.lcm(*[price.denominator for price in prices])
+    return (tuple(int(price * bottom) for price in prices), bottom)
