@@ -86,3 +86,90 @@ def row_with(prices):
     prices = [Fraction(price) for price in prices]
     bottom = math.lcm(*[price.denominator for price in prices])
     return (tuple(int(price * bottom) for price in prices), bottom)
+
+
+def drawn_orders(dice, many, size):
+    """So many orders, drawn by the dice."""
+    return [tuple(dice.sample(range(many), many)) for turn in range(size)]
+
+
+def drawn_mixture(dice, many, size, greatest):
+    """A mixture of so many pairs, with counts up to the greatest."""
+    return tuple((dice.randint(1, greatest), order) for order in drawn_orders(dice, many, size))
+
+
+def ten_houses():
+    """Houses of ten things, of several kinds."""
+    counts = counted(10, (5, 5, 4, 2, 2, 0, 0, -1, -3, -9))
+    covers = covered(10, (3, 6, 1023, 640, 96, 97, 513))
+    return [counts, joined(covers, summed(10, tuple(range(-5, 5)))), joined(counts, summed(10, (-3, 2) * 5))]
+
+
+def paid(house, prices):
+    """The house in which each set has its worth less the prices of its things."""
+    return joined(house, summed(house[0], tuple(-price for price in prices)))
+
+
+def gains_along(house, order):
+    """For each thing what it adds to the things ahead of it, by the words of the document."""
+    prices = [0] * house[0]
+    ahead = 0
+    for thing in order:
+        prices[thing] = house[1][ahead | 2 ** thing] - house[1][ahead]
+        ahead |= 2 ** thing
+    return tuple(prices)
+
+
+def beginnings(order):
+    """The sets of the first things of an order."""
+    return [sum(2 ** thing for thing in order[:size]) for size in range(len(order) + 1)]
+
+
+def houses_with_several():
+    """Houses with several least sets: all beginnings of an order are such."""
+    dice = random.Random(17)
+    houses = []
+    for house in some_houses():
+        # Worths at the bound would go beyond it.
+        if max(map(abs, house[1])) < EDGE // 2:
+            for order in drawn_orders(dice, house[0], 2):
+                houses.append(paid(house, gains_along(house, order)))
+    return houses
+
+
+def edge_houses():
+    """Houses with worths at the bound, so that some go beyond it where a thing is granted."""
+    houses = [(1, (0, EDGE)), (1, (0, -EDGE)), (2, (0, EDGE, EDGE, -EDGE)), (2, (0, EDGE, -EDGE, -EDGE)),
+              (2, (0, EDGE, -EDGE, 1 - EDGE)), (2, (0, 0, EDGE, 0)), (3, (0, EDGE, EDGE, 0, EDGE, 0, 0, -EDGE)),
+              (3, (0, EDGE, 7, 0, EDGE - 1, 0, 0, -EDGE)),
+              (3, (0, EDGE, -EDGE, 5 - EDGE, EDGE, EDGE, 5 - EDGE, -EDGE))]
+    for gain in (EDGE // 3, EDGE):
+        houses.append(counted(3, (gain, 0, -EDGE)))
+        houses.append(counted(4, (gain, 0, 0, -EDGE)))
+    return houses
+
+
+def least_by_all(house):
+    """All least sets, by all sets."""
+    return [number for number in range(2 ** house[0]) if house[1][number] == min(house[1])]
+
+
+def lowest_by_all(house):
+    """The things that are in all least sets."""
+    told = least_by_all(house)
+    return sum(2 ** thing for thing in range(house[0]) if all(number & 2 ** thing for number in told))
+
+
+def needs_by_all(house):
+    """For each thing what is in each least set that has it, or None."""
+    told = []
+    for thing in range(house[0]):
+        having = [number for number in least_by_all(house) if number & 2 ** thing]
+        common = [at for at in range(house[0]) if all(number & 2 ** at for number in having)]
+        told.append(sum(2 ** at for at in common) if having else None)
+    return tuple(told)
+
+
+def within(lesser, greater):
+    """Whether the one set lies within the other."""
+    return lesser & greater == lesser
