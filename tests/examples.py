@@ -151,7 +151,8 @@ def edge_houses():
 
 def least_by_all(house):
     """All least sets, by all sets."""
-    return [number for number in range(2 ** house[0]) if house[1][number] == min(house[1])]
+    fewest = min(house[1])
+    return [number for number in range(2 ** house[0]) if house[1][number] == fewest]
 
 
 def lowest_by_all(house):
@@ -173,3 +174,49 @@ def needs_by_all(house):
 def within(lesser, greater):
     """Whether the one set lies within the other."""
     return lesser & greater == lesser
+
+
+def row_by_words(house, mixture):
+    """A mixture's row, of a house or a floor, by the words of the document."""
+    prices = [Fraction(0)] * house[0]
+    together = sum(count for count, order in mixture)
+    for count, order in mixture:
+        prices = [price + Fraction(count * gain, together) for price, gain in zip(prices, gains_along(house, order))]
+    return row_with(prices)
+
+
+def noughts(many):
+    """The house in which all sets have the worth 0."""
+    return summed(many, (0,) * many)
+
+
+def drawn_house(dice, many):
+    """A house of several kinds put together, drawn by the dice."""
+    gains = sorted([dice.randint(-4, 9) for thing in range(many)], reverse=True)
+    groups = [dice.randint(1, 2 ** many - 1) for group in range(6)]
+    prices = [dice.randint(-4, 4) for thing in range(many)]
+    return joined(counted(many, gains), joined(covered(many, groups), summed(many, prices)))
+
+
+def turned_signs(house):
+    """The same worths, each with the opposite sign."""
+    return (house[0], tuple(-worth for worth in house[1]))
+
+
+def is_plain(value):
+    """Whether this is made of ints, tuples and None alone."""
+    return all(map(is_plain, value)) if type(value) is tuple else value is None or type(value) is int
+
+
+def weights_for(many):
+    """Weights that are all alike, and unlike ones."""
+    dice = random.Random(many)
+    return [(1,) * many, (1000,) * many, tuple(dice.randint(1, 1000) for thing in range(many)),
+            tuple(dice.randint(1, 3) for thing in range(many)), tuple((1, 1000)[thing & 1] for thing in range(many))]
+
+
+def left_with_least(house, weights, price):
+    """All sets that are left with least by this price, one of Python's own fractions."""
+    left = [worth * price.denominator - price.numerator * cost(weights, number) for number, worth in enumerate(house[1])]
+    fewest = min(left)
+    return [number for number, worth in enumerate(left) if worth == fewest]

@@ -6,20 +6,11 @@ import unittest
 from fractions import Fraction
 
 from examples import (changed, cost, drawn_mixture, drawn_orders, edge_houses, gains_along, houses_with_several,
-                      joined, prices_of, row_with, some_houses, summed, ten_houses)
+                      joined, prices_of, row_by_words, row_with, some_houses, summed, ten_houses)
 from fallgain.apart import taken_apart
 from fallgain.below import is_full, raised
 from fallgain.errors import NotFull, Passes
 from fallgain.mixtures import is_mixture, mixture_row
-
-
-def row_by_words(house, mixture):
-    """A mixture's row, by the words of the document."""
-    prices = [Fraction(0)] * house[0]
-    together = sum(count for count, order in mixture)
-    for count, order in mixture:
-        prices = [price + Fraction(count * gain, together) for price, gain in zip(prices, gains_along(house, order))]
-    return row_with(prices)
 
 
 def half_way(one, other):

@@ -5,7 +5,7 @@ import random
 import unittest
 
 from examples import (FAR, counted, drawn_orders, edge_houses, gains_along, houses_with_several, least_by_all,
-                      lowest_by_all, needs_by_all, no_numbers, paid, some_houses, summed, ten_houses, within)
+                      lowest_by_all, needs_by_all, no_numbers, noughts, paid, some_houses, ten_houses, within)
 from fallgain.errors import NoThing
 from fallgain.family import highest, least_sets, lowest, needs, told_by, turning
 from fallgain.least import least
@@ -14,11 +14,6 @@ from fallgain.least import least
 def ten_with_several():
     dice = random.Random(41)
     return [paid(house, gains_along(house, order)) for house in ten_houses() for order in drawn_orders(dice, 10, 2)]
-
-
-def noughts(many):
-    """The house in which all sets are least ones."""
-    return summed(many, (0,) * many)
 
 
 def all_houses():
