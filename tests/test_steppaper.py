@@ -148,6 +148,12 @@ class FractionsBentTest(StepPaperCase):
                     other = (top * factor, bottom * factor, number)
                     self.is_none(house, weights, self.bent(paper, at, other))
 
+    def test_bottoms_below_nought_in_all_steps(self):
+        for house, weights, (steps, mixture) in SMALL:
+            for some in (steps[:1], steps[:2], steps):
+                other = tuple((-top, -bottom, number) for top, bottom, number in some) + steps[len(some):]
+                self.is_none(house, weights, (other, mixture))
+
     def test_nought_over_others(self):
         house, weights = noughts(2), (3, 1)
         mixture = ((1, (0, 1)),)
