@@ -1,6 +1,6 @@
 """Full rows taken apart into mixtures of orders."""
 
-from fallgain.below import check_below, is_full, slacks
+from fallgain.below import check_below, is_full, raised, slacks
 from fallgain.errors import NotFull
 from fallgain.fractions import lowest_terms
 from fallgain.orders import order_row
@@ -74,3 +74,8 @@ def taken_apart(house, row):
         counts = [count * (top + bottom) for count in counts] + [rest * top]
         rest = rest * bottom
         row = row_beyond(row, moves, top, bottom)
+
+
+def mixture_above(house, prices):
+    """A mixture by whose row no thing costs less than by these whole prices, which are below the house."""
+    return taken_apart(house, raised(house, (prices, 1), tuple(range(house[0]))))

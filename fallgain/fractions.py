@@ -1,5 +1,7 @@
 """Fractions: tuples (top, bottom) in lowest terms, bottom from 1 on."""
 
+from fallgain.kinds import are_numbers
+
 
 def common_divisor(one, other):
     """The greatest number that divides both; 0 only where both are 0."""
@@ -7,6 +9,19 @@ def common_divisor(one, other):
     while other > 0:
         one, other = other, one % other
     return one
+
+
+def common_multiple(numbers):
+    """The least number that each of these, all from 1 on, divides."""
+    multiple = 1
+    for number in numbers:
+        multiple = multiple // common_divisor(multiple, number) * number
+    return multiple
+
+
+def is_fraction(thing):
+    """Whether this is a fraction."""
+    return are_numbers(thing, 2) and thing[1] >= 1 and common_divisor(thing[0], thing[1]) == 1
 
 
 def lowest_terms(top, bottom):

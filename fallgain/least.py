@@ -1,7 +1,7 @@
 """Least sets, and papers for them."""
 
-from fallgain.apart import taken_apart
-from fallgain.below import least_slack, raised, slacks
+from fallgain.apart import mixture_above
+from fallgain.below import least_slack, slacks
 from fallgain.errors import NoSet
 from fallgain.sets import is_set
 
@@ -23,8 +23,7 @@ def raised_to_nought(house, prices):
 
 def least_mixture(house):
     """A mixture by whose row the prices below 0 come to the least worth."""
-    low = raised_to_nought(house, low_prices(house))
-    return taken_apart(house, raised(house, (low, 1), tuple(range(house[0]))))
+    return mixture_above(house, raised_to_nought(house, low_prices(house)))
 
 
 def least(house):

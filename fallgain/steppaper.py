@@ -1,6 +1,6 @@
 """Papers for steps: pairs (steps, mixture)."""
 
-from fallgain.fractions import common_divisor, is_less
+from fallgain.fractions import common_multiple, is_fraction, is_less
 from fallgain.kinds import are_numbers, is_tuple_of
 from fallgain.mixtures import is_mixture, mixture_row
 from fallgain.rows import row_of
@@ -11,8 +11,7 @@ def is_step(many, thing):
     """Whether this is a tuple (top, bottom, set), whatever the other steps are."""
     if not are_numbers(thing, 3):
         return False
-    top, bottom, members = thing
-    return bottom >= 1 and common_divisor(top, bottom) == 1 and is_set(many, members)
+    return is_fraction(thing[:2]) and is_set(many, thing[2])
 
 
 def grows(ahead, members):
@@ -50,9 +49,7 @@ def is_just(house, weights, ahead, step):
 
 def steps_row(weights, steps):
     """The row in which each thing costs its weight times the fraction of the first step that has it."""
-    shared = 1
-    for top, bottom, members in steps:
-        shared = shared * bottom
+    shared = common_multiple([bottom for top, bottom, members in steps])
     numbers = [0] * len(weights)
     for ahead, (top, bottom, members) in steps_with_ahead(steps):
         for thing in things_in(members ^ ahead):

@@ -220,3 +220,62 @@ def left_with_least(house, weights, price):
     left = [worth * price.denominator - price.numerator * cost(weights, number) for number, worth in enumerate(house[1])]
     fewest = min(left)
     return [number for number, worth in enumerate(left) if worth == fewest]
+
+
+def whole_set(many):
+    """The set of all things."""
+    return 2 ** many - 1
+
+
+def small_floors(dice, house):
+    """Floors of as many things that lie below the house, and some that touch it."""
+    many = house[0]
+    floors = []
+    for order in drawn_orders(dice, many, 2):
+        prices = gains_along(house, order)
+        floors.append(summed(many, prices))
+        mixed = prices_of(row_by_words(house, drawn_mixture(dice, many, 3, 9)))
+        lower = [price.numerator // price.denominator - dice.randint(0, 2) for price in mixed]
+        groups = [dice.randint(1, whole_set(many)) for group in range(dice.randint(0, 4))]
+        # A cover is nowhere below 0, so that prices less a cover are a floor below the prices.
+        floors.append(turned_signs(paid(covered(many, groups), lower)))
+    return floors
+
+
+def raised_by_words(house, prices, order):
+    """The prices, each raised in this order as far as the house lets, by all sets."""
+    grown = [Fraction(price) for price in prices]
+    for thing in order:
+        having = [number for number in range(2 ** house[0]) if number & 2 ** thing]
+        grown[thing] += min(house[1][number] - cost(grown, number) for number in having)
+    return grown
+
+
+def full_rows(dice, house, size):
+    """Full rows of a house: of orders, of mixtures, and raised ones, so many of each."""
+    many = house[0]
+    rows = []
+    for order in drawn_orders(dice, many, size):
+        rows.append((gains_along(house, order), 1))
+        rows.append(row_by_words(house, drawn_mixture(dice, many, dice.randint(1, 4), 9)))
+        prices = [price - Fraction(dice.randint(0, 9), dice.randint(1, 4)) for price in prices_of(rows[-1])]
+        rows.append(row_with(raised_by_words(house, prices, order)))
+    return rows
+
+
+def is_full_by_words(house, prices):
+    """Whether no set costs more than its worth, and all things just theirs."""
+    left = [worth - cost(prices, number) for number, worth in enumerate(house[1])]
+    return min(left) >= 0 and left[-1] == 0
+
+
+def seven_houses():
+    """Houses of seven things."""
+    dice = random.Random(7)
+    return [drawn_house(dice, 7), drawn_house(dice, 7), counted(7, (9, 4, 4, 1, 0, -2, -8))]
+
+
+def passing_row(house):
+    """A row that passes a set, and the first such set."""
+    prices = tuple(house[1][2 ** thing] + 1 for thing in range(house[0]))
+    return ((prices, 1), min(number for number, worth in enumerate(house[1]) if cost(prices, number) > worth))

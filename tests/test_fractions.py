@@ -1,10 +1,12 @@
 """Fractions: point 12's last but one sentence, and the interface."""
 
 import itertools
+import math
 import unittest
 from fractions import Fraction
 
-from fallgain.fractions import is_less, lowest_terms, plus, times
+from examples import no_numbers
+from fallgain.fractions import common_multiple, is_fraction, is_less, lowest_terms, plus, times
 
 LONG = 1234567890123456789012345678901234567890
 OTHER_LONG = 9876543210987654321098765432109876543211
@@ -45,6 +47,25 @@ class LowestTermsTest(unittest.TestCase):
                 self.assertEqual(told, pair(Fraction(top, bottom)))
                 self.assertIs(type(told), tuple)
                 self.assertEqual(told, lowest_terms(top, bottom))
+
+
+class IsFractionTest(unittest.TestCase):
+    def test_every_pair_of_samples(self):
+        for top, bottom in itertools.product(TOPS, BOTTOMS):
+            right = bottom > 0 and pair(Fraction(top, bottom)) == (top, bottom)
+            self.assertIs(is_fraction((top, bottom)), right)
+
+    def test_what_is_none(self):
+        for value in [*no_numbers(), 1, (1, 0), (0, 0), (0, 2), (2, 4), (1, -1), [1, 2], (1, 2, 3), ((1, 2),), (True, 2),
+                      (1, True), (1, None), ("1", 2)]:
+            self.assertIs(is_fraction(value), False, value)
+
+
+class CommonMultipleTest(unittest.TestCase):
+    def test_some(self):
+        self.assertEqual(common_multiple([]), 1)
+        for numbers in ([1], [7], [4, 6], [6, 4, 9], [LONG, OTHER_LONG, 2 * LONG], list(range(1, 60))):
+            self.assertEqual(common_multiple(numbers), math.lcm(*numbers))
 
 
 class SumsTest(unittest.TestCase):
