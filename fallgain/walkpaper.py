@@ -25,6 +25,11 @@ def numbers_over(row, bottom):
     return [number * (bottom // row[1]) for number in row[0]]
 
 
+def lacks_over(row, other, bottom):
+    """How much each price lacks of that in the other row, times bottom, which both bottoms divide."""
+    return [there - here for here, there in zip(numbers_over(row, bottom), numbers_over(other, bottom))]
+
+
 def made_whole(exchanges, bottom):
     """The exchanges, each amount times bottom, which all their own bottoms divide."""
     return [(one, other, top * (bottom // own)) for one, other, (top, own) in exchanges]
@@ -58,7 +63,7 @@ def right_walk(house, row, other, thing):
         return False
     # Over a common bottom all is whole, and nothing has to be put in lowest terms on the way.
     bottom = common_multiple([row[1], other[1]] + [amount[1] for grows, falls, amount in thing])
-    numbers = numbers_over(row, bottom)
     exchanges = made_whole(thing, bottom)
-    lacks = [there - here for here, there in zip(numbers, numbers_over(other, bottom))]
-    return lead_there(lacks, exchanges) and stay_below(slacks(house, (numbers, bottom)), exchanges)
+    if not lead_there(lacks_over(row, other, bottom), exchanges):
+        return False
+    return stay_below(slacks(house, (numbers_over(row, bottom), bottom)), exchanges)

@@ -161,6 +161,28 @@ class LanguageTest(unittest.TestCase):
                 self.assertRegex(part, r"\A[A-Za-z][A-Za-z0-9_]*\Z")
             self.assertEqual(sorted(set(top_names(tree)) & (set(dir(builtins)) | BARRED_NAMES)), [])
 
+    def test_methods_and_attributes_are_unlike(self):
+        methods, attributes, read = set(), set(), set()
+        for name, tree in self.each():
+            for node in ast.walk(tree):
+                if isinstance(node, ast.ClassDef):
+                    methods |= {part.name for part in node.body if isinstance(part, ast.FunctionDef)}
+                if isinstance(node, ast.Attribute):
+                    (attributes if isinstance(node.ctx, ast.Store) else read).add(node.attr)
+        self.assertEqual(sorted(methods & attributes), [])
+        self.assertEqual(sorted(attributes & set(dir(str) + dir(list) + dir(dict) + dir(set) + dir(int))), [])
+        self.assertEqual(sorted(read - methods - attributes - METHODS), [])
+
+    def test_classes_are_plain(self):
+        for name, tree in self.each():
+            for node in ast.walk(tree):
+                if isinstance(node, ast.ClassDef):
+                    self.assertIn(node, tree.body)
+                    self.assertEqual(node.decorator_list, [])
+                    names = [part.name for part in node.body if isinstance(part, ast.FunctionDef)]
+                    self.assertEqual(len(names), len(set(names)))
+                    self.assertEqual([part for part in names if part.startswith("_") and part != "__init__"], [])
+
     def test_methods_are_allowed_ones(self):
         own = {function.name for name in file_names() for function in functions_of(ast.parse(read(name)))}
         for name, tree in self.each():
